@@ -1,4 +1,4 @@
-"""Where the package lies, and the rules of the language that can be seen in its files."""
+"""Where the package lies, and some of the rules of the language: files, signs, sizes, imports, names, statements."""
 
 import ast
 import builtins
