@@ -11,8 +11,12 @@ def is_whole(value):
     return isinstance(value, int) and not isinstance(value, bool)
 
 
+def is_whole_from(value, least):
+    return is_whole(value) and value >= least
+
+
 def is_load(value):
-    return is_whole(value) and 0 <= value <= MOST_LOAD
+    return is_whole_from(value, 0) and value <= MOST_LOAD
 
 
 def is_row(value):
@@ -24,16 +28,20 @@ def is_row(value):
     return True
 
 
-def are_cuts(value, row):
+def are_rising_places(value, row, least):
     if not isinstance(value, list):
         return False
-    # Starting from 0 keeps the first place out, since each cut must lie beyond the one ahead.
-    ahead = 0
-    for cut in value:
-        if not is_whole(cut) or cut <= ahead or cut >= len(row):
+    free = least
+    for place in value:
+        if not is_whole_from(place, free) or place >= len(row):
             return False
-        ahead = cut
+        free = place + 1
     return True
+
+
+def are_cuts(value, row):
+    # The first place begins a part by itself, so no cut stands there.
+    return are_rising_places(value, row, 1)
 
 
 def check_row(value):
@@ -46,9 +54,7 @@ def check_cuts(value, row):
         raise BadCuts("not cuts of the row: a list of rising places of it, none the first")
 
 
-def borne(row, cuts):
-    check_row(row)
-    check_cuts(cuts, row)
+def part_sums(row, cuts):
     # A row of none has no parts, where any other row has one more than cuts.
     if len(row) == 0:
         return []
@@ -59,6 +65,12 @@ def borne(row, cuts):
         start = cut
     sums.append(sum(row[start:]))
     return sums
+
+
+def borne(row, cuts):
+    check_row(row)
+    check_cuts(cuts, row)
+    return part_sums(row, cuts)
 
 
 def halved(row):

@@ -1,5 +1,7 @@
-"""What several test files need: things of other kinds, and how a call was refused."""
+"""What several test files need: things of other kinds, rows and cuts, and how a call ended."""
 
+import signal
+from contextlib import contextmanager
 from itertools import combinations, product
 
 MOST = 1000000
@@ -34,6 +36,14 @@ def no_whole_numbers():
     ]
 
 
+def no_texts():
+    return [thing for thing in no_lists() if not isinstance(thing, str)] + [[], ["1"], ["1", "2"], [1, 2], ([], [])]
+
+
+def below(least):
+    return [least - 1, least - 2, -1, -2, -MOST, -10 ** 40]
+
+
 def no_loads():
     return no_whole_numbers() + [-1, -2, -MOST, -10 ** 40, MOST + 1, MOST + 2, 2 * MOST, 10 ** 40]
 
@@ -45,6 +55,21 @@ def refusal(call, *args):
     except Exception as error:
         return type(error)
     return None
+
+
+@contextmanager
+def in_good_time(seconds=60):
+    """Fails what takes far longer than it should, in the place of waiting for its end."""
+
+    def give_up(number, frame):
+        raise AssertionError(f"not done in {seconds} seconds")
+
+    signal.signal(signal.SIGALRM, give_up)
+    signal.alarm(seconds)
+    try:
+        yield
+    finally:
+        signal.alarm(0)
 
 
 def small_rows(most_loads, most_load):

@@ -1,4 +1,4 @@
-"""Where the package lies, and some of the rules of the language: files, signs, sizes, imports, names, statements."""
+"""Where the package lies, and some of the rules of the language: files, signs, sizes, imports, names, statements, methods."""
 
 import ast
 import builtins
@@ -22,6 +22,11 @@ NEVER_NAMES = set(
 NEVER_WORDS = re.compile(
     r"\b(type|typing|typing_extensions|enum|Enum|IntEnum|StrEnum|Flag|IntFlag|Generic|Protocol|ABC|ABCMeta|namedtuple"
     r"|NamedTuple|TypedDict|TYPE_CHECKING|abstractmethod)\b|dataclass|overload|contextmanager"
+)
+OWN_METHODS = set(
+    "append clear copy count endswith extend find get index insert isalnum isalpha isdigit islower isspace isupper items"
+    " join keys ljust lower lstrip partition pop remove replace reverse rfind rjust rpartition rsplit rstrip setdefault"
+    " split splitlines startswith strip update upper values zfill bit_length".split()
 )
 METHODS = set("__init__ __eq__ __repr__ __str__ __len__".split())
 NODES = tuple(
@@ -117,16 +122,59 @@ def form_faults(tree):
             yield f"bases or decorator of {node.name}"
 
 
+def method_names(tree):
+    classes = [node for node in ast.walk(tree) if isinstance(node, ast.ClassDef)]
+    return [node.name for kind in classes for node in kind.body if isinstance(node, ast.FunctionDef)]
+
+
+def value_names(tree):
+    return [node.attr for node in ast.walk(tree) if isinstance(node, ast.Attribute) and isinstance(node.ctx, ast.Store)]
+
+
+def drawn_from(tree):
+    return [node.module for node in ast.walk(tree) if isinstance(node, ast.ImportFrom)]
+
+
+def value_faults(tree):
+    own = OWN_METHODS | set(method_names(tree))
+    for node in ast.walk(tree):
+        if isinstance(node, ast.Call) and isinstance(node.func, ast.Attribute) and node.func.attr not in own:
+            yield f"method {node.func.attr}"
+        if isinstance(node, ast.Compare) and any(isinstance(sign, (ast.Is, ast.IsNot)) for sign in node.ops):
+            if not isinstance(node.comparators[-1], ast.Constant) or len(node.ops) > 1:
+                yield "is beside something else than None, True and False"
+        if isinstance(node, ast.Assign) and len(node.targets) > 1:
+            yield "several targets"
+        if isinstance(node, ast.Constant) and "%" in str(node.value):
+            yield "a text with a percent sign"
+
+
+def top_faults(tree):
+    bound = []
+    for node in tree.body:
+        if isinstance(node, ast.Assign):
+            bound += [target.id for target in node.targets]
+        elif isinstance(node, (ast.FunctionDef, ast.ClassDef)):
+            bound.append(node.name)
+        elif isinstance(node, ast.ImportFrom):
+            bound += [alias.asname or alias.name for alias in node.names]
+        elif not isinstance(node, ast.Expr) or not isinstance(node.value, ast.Constant):
+            yield "something done at the top"
+    for name in sorted(set(bound)):
+        if list(bound_names(tree)).count(name) > 1:
+            yield f"{name} is bound twice"
+
+
 def faults(text):
     tree = ast.parse(text)
-    found = sign_faults(text) + list(form_faults(tree))
+    found = sign_faults(text) + list(form_faults(tree)) + list(value_faults(tree)) + list(top_faults(tree))
     return found + list(name_faults(tree)) + list(import_faults(tree))
 
 
 class Layout(unittest.TestCase):
     def test_the_package_lies_at_the_top(self):
         self.assertTrue((PACKAGE / "__init__.py").is_file())
-        for name in ("errors", "rows"):
+        for name in ("errors", "rows", "answers", "parts", "texts"):
             self.assertTrue((PACKAGE / (name + ".py")).is_file(), name)
 
     def test_it_is_the_one_package(self):
@@ -154,6 +202,19 @@ class Form(unittest.TestCase):
         for path in sources():
             self.assertEqual(faults(path.read_text(encoding="utf-8")), [], path)
 
+    def test_no_name_is_a_method_and_a_value(self):
+        trees = [ast.parse(path.read_text(encoding="utf-8")) for path in sources()]
+        methods = {name for tree in trees for name in method_names(tree)}
+        values = {name for tree in trees for name in value_names(tree)}
+        self.assertEqual(methods & values, set())
+
+    def test_no_two_files_draw_from_one_another(self):
+        drawn = {f"cutrow.{path.stem}": drawn_from(ast.parse(path.read_text(encoding="utf-8"))) for path in sources()}
+        while drawn:
+            free = [name for name, others in drawn.items() if not set(others) & set(drawn)]
+            self.assertNotEqual(free, [], drawn)
+            drawn = {name: others for name, others in drawn.items() if name not in free}
+
     def test_what_is_outside_the_language_is_seen(self):
         for text in (
             "import os\n", "from os import path\n", "from .errors import BadRow\n", "from cutrow.errors import *\n",
@@ -163,7 +224,9 @@ class Form(unittest.TestCase):
             "def f(x):\n    return type(x)\n", "def f(x):\n    return hash(x)\n", "def f(sum):\n    return sum\n",
             "_x = 1\n", "x = [_ for _ in [1]]\n", "def f():\n\treturn 1\n", "x = '\u00e4'\n", "x = 1  # an enum\n",
             "class A(list, dict):\n    pass\n", "x = 1\n" * 401, "x = '" + "a" * 120 + "'\n",
-            "def f():\n" + "    pass\n" * 40,
+            "def f():\n" + "    pass\n" * 40, "def f(x):\n    x.sort()\n", "def f(x, y):\n    return x is y\n",
+            "def f():\n    x = y = 1\n    return x\n", "x = '1%'\n", "x = 1\nx = 2\n", "print(1)\n",
+            "def f(x):\n    return x\n\n\ndef g(f):\n    return f\n",
         ):
             self.assertNotEqual(faults(text), [], text)
 
